@@ -221,7 +221,7 @@ func taken(t *testing.T, what string, r api.Rec) {
 	}
 }
 
-// refused holds that no call takes a record; nor its bytes, where it has such.
+// refused holds that a record is not taken, and not told in words.
 func refused(t *testing.T, what string, r api.Rec, want api.Errno) {
 	t.Helper()
 	if s, e := record.Encode(r); s != "" || e != want {

@@ -135,7 +135,7 @@ func TestL4AnyBytes(t *testing.T) {
 	}
 }
 
-// TestL4NoTwoHaveTheSameBytes changes one thing of a record: it is refused, or has other bytes.
+// TestL4NoTwoHaveTheSameBytes keeps many records by their bytes, many of them of few numbers, so that they are nearly the same.
 func TestL4NoTwoHaveTheSameBytes(t *testing.T) {
 	source := rand.New(rand.NewSource(63))
 	by := map[string]api.Rec{}
@@ -155,7 +155,7 @@ func TestL4NoTwoHaveTheSameBytes(t *testing.T) {
 	}
 }
 
-// TestL4AnyRecord has records of any kind with any fields: two that are taken and are not the same have other bytes, and all are as the rules say.
+// TestL4AnyRecord lets one field of a record be what it may not, or may not always: it is taken just if its bytes by the rules, read by the rules, are it.
 func TestL4AnyRecord(t *testing.T) {
 	source := rand.New(rand.NewSource(64))
 	odd := append([]int{1, 2, last, behind}, noNumbers...)
